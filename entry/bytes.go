@@ -118,7 +118,7 @@ func writeList[T any](w *writer, l []T, put func(*writer, T)) {
 	}
 }
 
-// reader takes bytes apart. Those that it misses are 0, so that it needs no errors.
+// reader takes bytes apart. Where they end too early it goes on with none, so that it needs no errors.
 type reader struct {
 	rest []byte
 }
@@ -175,28 +175,28 @@ func (r *reader) place() (p api.RID) {
 }
 
 func (r *reader) cell() []byte {
-	n := min(r.number(1), len(r.rest))
-	b := append([]byte(nil), r.rest[:n]...)
-	r.rest = r.rest[n:]
-	return b
+	n := r.number(1)
+	return append([]byte(nil), r.cut(n)...)
 }
 
 // number reads one in that many bytes.
 func (r *reader) number(size int) int {
 	n := 0
-	for range size {
-		n = n<<8 | int(r.next())
+	for _, c := range r.cut(size) {
+		n = n<<8 | int(c)
 	}
 	return n
 }
 
-func (r *reader) next() byte {
-	if len(r.rest) == 0 {
-		return 0
-	}
-	c := r.rest[0]
-	r.rest = r.rest[1:]
-	return c
+// cut takes the next n bytes, or all that are left if these are fewer.
+//
+// No other method has to do with rest, and this one calls none: Go leaves it open whether a variable
+// is read ahead of a call that changes it, or behind it, if both stand in one expression.
+func (r *reader) cut(n int) []byte {
+	n = min(n, len(r.rest))
+	b := r.rest[:n]
+	r.rest = r.rest[n:]
+	return b
 }
 
 // readList reads the number of elements, and each one as take does.

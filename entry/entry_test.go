@@ -461,6 +461,27 @@ func TestTakeRefusesWhatIsCutOff(t *testing.T) {
 	wantNoTake(t, "nothing", []byte{})
 }
 
+func TestTakeRefusesLengthsThatAreGreaterThanWhatIsLeft(t *testing.T) {
+	wantNoTake(t, "cut off behind a length", append([]byte{5, 3}, append(make([]byte, 13), api.CellSize)...))
+	b := fullBytes()
+	for _, at := range lensAt {
+		for n := range 256 {
+			for left := range min(n, 60) {
+				whole := turned(slices.Concat(b[:at+1], filled(left, 1)), at, byte(n))
+				wantNoTake(t, "cut off behind a length", whole)
+			}
+		}
+	}
+	for _, at := range listsAt {
+		for n := 1; n < 256; n++ {
+			for left := range 4 {
+				whole := turned(slices.Concat(b[:at+1], make([]byte, left)), at, byte(n))
+				wantNoTake(t, "cut off behind a number of elements", whole)
+			}
+		}
+	}
+}
+
 func TestTakeRefusesBytesBehind(t *testing.T) {
 	for _, b := range [][]byte{fullBytes(), plainBytes(1), plainBytes(5)} {
 		for c := range 256 {
