@@ -1,6 +1,7 @@
 package hand_test
 
 import (
+	"maps"
 	"math"
 	"slices"
 	"strconv"
@@ -418,6 +419,23 @@ func TestCachesAreIndependent(t *testing.T) {
 	q.play(t, "-a! d>a")
 	p.play(t, "=ad")
 	q.play(t, "=dc")
+}
+
+// TestAssignmentCopies: a cache is a value; whoever assigns one has a copy, and may go back to it.
+func TestAssignmentCopies(t *testing.T) {
+	p := start(t, 3, "a b c d>a ?b +d")
+	before := *p.h
+	values := maps.Clone(p.values)
+	for _, steps := range []string{"e>c f>b =dfe", "?c e>b f>c", "-d /d e =ebc", "+b +c e! c -d e>d", "e>c f>b g>e =dfg /f"} {
+		p.play(t, steps)
+		*p.h, p.values = before, maps.Clone(values)
+		p.play(t, "=dbc")
+	}
+	// Nor does the copy change with the cache it is of.
+	c := before
+	p.play(t, "e>c -d f>b /d")
+	p.h, p.values = &c, values
+	p.play(t, "=dbc ?d -d -d! e>c f>b")
 }
 
 // Other types
